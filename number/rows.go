@@ -50,12 +50,10 @@ func (n *Number) countRows(cons []api.Con) {
 	}
 }
 
-// laid: 1, if the clause has a row; 0, if it is true anyway.
-func laid(list ...said) int {
-	for _, s := range list {
-		if s.always {
-			return 0
-		}
+// laid: 1, if a clause has a row; 0, if what it says beside literals is true anyway.
+func laid(s said) int {
+	if s.always {
+		return 0
 	}
 	return 1
 }
@@ -84,29 +82,35 @@ func elementRows(n *Number, c api.Con) int {
 	return rows
 }
 
+// maxRows: [Y at least k] is true anyway up to Y's least value, not [x at least
+// k] above x's greatest one: the numbers between them have a clause of both. So
+// it is with the last clause, whose x is the one with the greatest least value.
 func maxRows(n *Number, c api.Con) int {
-	return n.ends(c, func(s said) said { return s })
-}
-
-// minRows: a Min is a Max of all that is turned round.
-func minRows(n *Number, c api.Con) int {
-	return n.ends(c, said.not)
-}
-
-// ends counts a Max's rows, all that is said of [x at least k] turned.
-func (n *Number) ends(c api.Con, turn func(said) said) int {
-	rows := 0
-	for _, k := range slices.Compact(n.everywhere(append([]int{c.Y}, c.Xs...))) {
-		y := turn(n.vars[c.Y].atLeast(k))
-		last := []said{y.not()}
-		for _, x := range c.Xs {
-			here := turn(n.vars[x].atLeast(k))
-			rows += laid(here.not(), y)
-			last = append(last, here)
-		}
-		rows += laid(last...)
+	y, ks := n.vars[c.Y], n.ofOne(append([]int{c.Y}, c.Xs...))
+	rows, least := 0, -api.MaxValue
+	for _, x := range c.Xs {
+		rows += between(ks, y[lo], n.vars[x][hi])
+		least = max(least, n.vars[x][lo])
 	}
-	return rows
+	return rows + between(ks, least, y[hi])
+}
+
+// minRows: a Min is a Max of what is turned round.
+func minRows(n *Number, c api.Con) int {
+	y, ks := n.vars[c.Y], n.ofOne(append([]int{c.Y}, c.Xs...))
+	rows, most := 0, api.MaxValue
+	for _, x := range c.Xs {
+		rows += between(ks, n.vars[x][lo], y[hi])
+		most = min(most, n.vars[x][hi])
+	}
+	return rows + between(ks, y[lo], most)
+}
+
+// between counts, of a rising list, those above one number, up to another one.
+func between(list []int, above, upTo int) int {
+	from, _ := slices.BinarySearch(list, above+1)
+	to, _ := slices.BinarySearch(list, upTo+1)
+	return max(to-from, 0)
 }
 
 func reifRows(n *Number, c api.Con) int {
@@ -122,6 +126,11 @@ func tableRows(n *Number, c api.Con) int {
 		}
 	}
 	return rows
+}
+
+// ofOne tells the values within the bounds of one of the variables, rising.
+func (n *Number) ofOne(xs []int) []int {
+	return slices.Compact(n.everywhere(xs))
 }
 
 // shared tells the values within the bounds of the variables at two or more
